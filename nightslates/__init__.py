@@ -1,0 +1,1 @@
+"""Nightslates: a number kept against an enemy by night."""

@@ -1,0 +1,199 @@
+"""Point 1: which error a wrong value raises, and that no value is modified."""
+
+import copy
+import unittest
+from itertools import combinations, product
+
+from nightslates import coins, errors, houses, rules
+
+# Wrong in the place of every argument but the last one of a function that begins with shows.
+STRANGE = (-1, 10 ** 30, "", "0", "(0,)", True, False, None, [], [0], [(0,)], [[0]], [((0,), (0, 1))], {}, {0: 0},
+           {"clerk": (0,)}, (None,), (True,), ("0",), ([],), ({},), (-1,), ((0, 0),), ((0,), None), ((0,), [0]),
+           ((((0,),),),))
+
+LOTS = ((1, 0), (0, 0), (0, True), (False, 1), (0, 2), (0, 99), (-1, 0), ("0", 1), (None, 0), ((0,), 1), ((),), [0, 1])
+RULES = ((), (2,), (2, (), ()), [2, ((0, 1), (0, 1, 1, 0))], (True, ((0, 1), (0, 1, 1, 0))), (2, ((0, 1),)),
+         (2, ((0, 1), (0, 1))), (2, ((0, 1), (0, 1, 1, 2))))
+
+# For each kind of argument: a right value, wrong ones, and the error that these raise.
+HOUSE = ((0,), (0, 1))
+KINDS = {
+    "house": (HOUSE, STRANGE + ((), ((0,), (1, 0)), ((0,), ()), HOUSE * 4), errors.BadHouse),
+    "lot": ((0,), STRANGE + LOTS, errors.BadLot),
+    "goal": ((0, 1), STRANGE + LOTS + ((),), errors.BadLot),
+    "number": (1, STRANGE + LOTS + ((), 8, "1", (1,), [1]), errors.BadNumber),
+    "start": (1, STRANGE + LOTS + ((), 2, "1", (1,), [1]), errors.BadNumber),
+    "evening": (200, STRANGE + LOTS + ((), 201, "1", (1,), [1]), errors.BadNumber),
+    "rules": ((2, ((0, 1), (0, 1, 1, 0))), STRANGE + RULES, errors.BadRules),
+    "slates": ((1, 0), STRANGE + ((), (0,), (0, 0, 0), (0, 2), (0, -1), (0, True), (0, None), [0, 1]), errors.BadSlates),
+    "nights": ((((0, 1),), ()), STRANGE + (((),) * 201, [()], ([],), (((0, 1), (0, 0)),), (((2, 0),),)), errors.BadNight),
+}
+
+CALLS = (
+    (houses.after, ("house", "lot", "lot")),
+    (coins.slate_number, ("house",)),
+    (coins.number_of, ("house", "goal")),
+    (coins.days_to, ("house", "number", "goal")),
+    (coins.cover_row, ("house", "number", "goal")),
+    (coins.closed_family, ("house", "number", "goal")),
+    (coins.bears, ("house", "number", "number")),
+    (coins.lot_bears, ("house", "number", "number", "goal")),
+    (coins.days_borne, ("house", "number", "number")),
+    (coins.best_lots, ("house",)),
+    (rules.morning, ("house", "rules", "slates")),
+    (rules.course, ("house", "rules", "start", "nights")),
+    (rules.tells, ("house", "rules", "number")),
+    (rules.days_told, ("house", "rules", "number")),
+    (rules.two_courses, ("house", "rules", "number")),
+    (rules.could_be, ("house", "rules", "number", "evening", "slates")),
+)
+
+SHOWS = (
+    (coins.shows_cover_row, ("house", "number", "goal")),
+    (coins.shows_closed_family, ("house", "number", "goal")),
+    (rules.shows_two_courses, ("house", "rules", "number")),
+)
+
+ALL_KINDS = STRANGE + LOTS + RULES + tuple(right for right, _, _ in KINDS.values()) + (
+    0, 1, 2, 7, (), ((),), ((), ()), ((), (), ()), (((),),), (((),), ((),)), ((0,),), ((1,), (0,)), (((0, 1),), ((1, 0),)),
+    ((((0, 1),),), (((0, 0),),)), ((((0, True),),), (((0, 0),),)), (None, None), (0, 1, None), [((),), ((),)],
+    ([()], [()]), ({}, {}), {(): ()}, (((((),),),),), "two courses", (((0,), (0,)),))
+
+
+def right(kinds):
+    return [KINDS[kind][0] for kind in kinds]
+
+
+def many_calls():
+    """Each function, its kinds of arguments, and for one that begins with shows a last value behind them."""
+    for function, kinds in CALLS:
+        yield function, kinds, ()
+    for function, kinds in SHOWS:
+        for value in (None, [], 7):
+            yield function, kinds, (value,)
+
+
+class WrongValues(unittest.TestCase):
+    def raised(self, function, arguments):
+        try:
+            function(*arguments)
+        except errors.SlateError as error:
+            return type(error)
+        return None
+
+    def test_right_values(self):
+        for function, kinds, rest in many_calls():
+            self.assertIsNone(self.raised(function, right(kinds) + list(rest)), function.__name__)
+
+    def test_each_argument(self):
+        for function, kinds, rest in many_calls():
+            for place, kind in enumerate(kinds):
+                for value in KINDS[kind][1]:
+                    arguments = right(kinds) + list(rest)
+                    arguments[place] = value
+                    self.assertIs(self.raised(function, arguments), KINDS[kind][2], (function.__name__, place, value))
+
+    def test_two_wrong_arguments(self):
+        for function, kinds, rest in many_calls():
+            for one, other in combinations(range(len(kinds)), 2):
+                for values in product(KINDS[kinds[one]][1][:12], KINDS[kinds[other]][1][-12:]):
+                    arguments = right(kinds) + list(rest)
+                    arguments[one], arguments[other] = values
+                    self.assertIs(self.raised(function, arguments), KINDS[kinds[one]][2],
+                                  (function.__name__, one, other, values))
+
+    def test_all_arguments_wrong(self):
+        for function, kinds, rest in many_calls():
+            arguments = [None for _ in kinds] + list(rest)
+            self.assertIs(self.raised(function, arguments), errors.BadHouse, function.__name__)
+
+    def test_shows_any_value(self):
+        for function, kinds in SHOWS:
+            for value in ALL_KINDS:
+                self.assertIn(function(*right(kinds), value), (True, False))
+                self.assertIs(type(function(*right(kinds), value)), bool, (function.__name__, value))
+
+    def test_shows_where_there_is_none(self):
+        for value in ALL_KINDS:
+            answers = [coins.shows_cover_row(HOUSE, 0, (0,), value),
+                       coins.shows_closed_family(HOUSE, 2, (0,), value),
+                       rules.shows_two_courses(HOUSE, (2, ((0, 1), (0, 0, 1, 1))), 0, value)]
+            self.assertEqual(answers, [value is None] * 3, value)
+
+    def test_deep_values(self):
+        deep = ()
+        for _ in range(100000):
+            deep = (deep,)
+        for function, kinds in SHOWS:
+            for value in (deep, (deep, deep), ((deep,), (deep,))):
+                self.assertIs(function(*right(kinds), value), False, function.__name__)
+        for place, kind in enumerate(CALLS[0][1]):
+            arguments = right(CALLS[0][1])
+            arguments[place] = deep
+            self.assertIs(self.raised(houses.after, arguments), KINDS[kind][2])
+
+    def test_nothing_is_modified(self):
+        for function, kinds, rest in many_calls():
+            arguments = right(kinds) + list(rest)
+            before = copy.deepcopy(arguments)
+            function(*arguments)
+            self.assertEqual(arguments, before, function.__name__)
+        for function, kinds in SHOWS:
+            for value in ALL_KINDS:
+                before = copy.deepcopy(value)
+                function(*right(kinds), value)
+                self.assertEqual(repr(value), repr(before), function.__name__)
+
+    def test_equal_arguments_have_equal_answers(self):
+        for function, kinds, rest in many_calls():
+            arguments = right(kinds) + list(rest)
+            self.assertEqual(function(*arguments), function(*copy.deepcopy(arguments)), function.__name__)
+
+    def test_kinds_of_answers(self):
+        wanted = {"after": tuple, "slate_number": int, "number_of": int, "days_to": int, "cover_row": tuple,
+                  "closed_family": type(None), "bears": bool, "lot_bears": bool, "days_borne": int, "best_lots": tuple,
+                  "morning": tuple, "course": tuple, "tells": bool, "days_told": int, "two_courses": tuple,
+                  "could_be": tuple}
+        for function, kinds in CALLS:
+            self.assertIs(type(function(*right(kinds))), wanted[function.__name__], function.__name__)
+
+
+class WrongHouses(unittest.TestCase):
+    def test_clerks(self):
+        wrong = [(value, None) for value in STRANGE if type(value) is not tuple] + [
+            ((), None), (((0,),) * 8, None), (((0,),) * 200, None), (((),) * 8, None),
+            ((None,), 0), ((0,), 0), ((True,), 0), (((),), 0), (([0],), 0), (((1,),), 0), (((-1,),), 0),
+            (((True,),), 0), ((("0",),), 0), (((None,),), 0), ((((0,),),), 0), (((0, 0),), 0), (({0: 0},), 0),
+            (("0",), 0), (((0, 1), (1, 0)), 1), (((0,), ()), 1), (((0,), (0, 2)), 1), (((0,), (0, True)), 1),
+            (((0,), (False, 1)), 1), (((0,), [1]), 1), (((0,), None, ()), 1), (((0,), (1,), {}), 2),
+            (((0,),) * 6 + ((7,),), 6), (((0, 1, 2), (0, 1, 2), (0, 2, 1)), 2), (((3,), (1,), (2,)), 0)]
+        for house, clerk in wrong:
+            for function, kinds, rest in many_calls():
+                with self.assertRaises(errors.BadHouse, msg=(function.__name__, house)) as caught:
+                    function(house, *right(kinds[1:]), *rest)
+                self.assertEqual(caught.exception.clerk, clerk, house)
+
+    def test_one_and_seven_clerks(self):
+        self.assertEqual(houses.after(((0,),), (), (0,)), (0,))
+        self.assertEqual(houses.after(((6,),) * 7, (6,), ()), tuple(range(7)))
+
+
+class WrongRules(unittest.TestCase):
+    def test_parts(self):
+        tables = ((0, 1), (0, 1, 1, 0))
+        wrong = [(value, "rules") for value in (None, 2, True, "22", [2, tables], {2: tables}, (), (2,), (2, tables, 0))]
+        wrong += [((value, tables), "signs")
+                  for value in (0, 1, 4, -2, 10 ** 30, True, False, None, "2", (2,), [2], {2: 2})]
+        wrong += [((4, None), "signs"), ((None, None), "signs")]
+        wrong += [((2, value), "tables")
+                  for value in (None, 0, True, "01", [], {}, (), list(tables), tables[:1], tables + tables[:1],
+                                (tables[0], tables[0]), (tables[1], tables[1]), (tables[0], list(tables[1])),
+                                (tables[0], None), (None, tables[1]), ((0, 2), tables[1]), ((0, True), tables[1]),
+                                ((0, -1), tables[1]), ((0, "1"), tables[1]), ((0, 1, 0), tables[1]))]
+        wrong += [((3, tables), "tables")]
+        for value, part in wrong:
+            for function, kinds in CALLS[10:] + SHOWS[2:]:
+                rest = right(kinds[2:]) + [None] * (function is rules.shows_two_courses)
+                with self.assertRaises(errors.BadRules, msg=(function.__name__, value)) as caught:
+                    function(HOUSE, value, *rest)
+                self.assertEqual(caught.exception.part, part, value)
