@@ -39,6 +39,13 @@ def is_night(house, signs, value):
     return True
 
 
+def is_row_of_signs(signs, length, value):
+    """Whether a value is a tuple of so many of the signs."""
+    if type(value) is not tuple or len(value) != length:
+        return False
+    return all(is_number(sign, 0, signs - 1) for sign in value)
+
+
 def count_rows(signs, length):
     """How many rows of so many signs there are of a length."""
     many = 1
@@ -80,24 +87,22 @@ def check_rules(house, rules):
     if type(tables) is not tuple or len(tables) != len(house):
         raise BadRules("tables")
     for row, table in zip(house, tables):
-        if not _is_row_of_signs(signs, count_rows(signs, len(row)), table):
+        if not is_row_of_signs(signs, count_rows(signs, len(row)), table):
             raise BadRules("tables")
 
 
 def check_slates(house, rules, slates):
-    if not _is_row_of_signs(rules[0], len(house), slates):
+    if not is_row_of_signs(rules[0], len(house), slates):
         raise BadSlates("no tuple of a sign for each clerk")
+
+
+def check_night(house, rules, night):
+    if not is_night(house, rules[0], night):
+        raise BadNight("no tuple of pairs of a slate and a sign, slates ascending")
 
 
 def check_nights(house, rules, nights):
     if type(nights) is not tuple or len(nights) > MOST_NIGHTS:
         raise BadNight(f"no tuple of at most {MOST_NIGHTS} nights")
     for night in nights:
-        if not is_night(house, rules[0], night):
-            raise BadNight("no tuple of pairs of a slate and a sign, slates ascending")
-
-
-def _is_row_of_signs(signs, length, value):
-    if type(value) is not tuple or len(value) != length:
-        return False
-    return all(is_number(sign, 0, signs - 1) for sign in value)
+        check_night(house, rules, night)

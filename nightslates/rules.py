@@ -28,7 +28,7 @@ def course(house, rules, start, nights):
     check_rules(house, rules)
     check_number(start, 0, 1)
     check_nights(house, rules, nights)
-    return _course(house, rules, start, nights)
+    return slates_of_course(house, rules, start, nights)
 
 
 def tells(house, rules, liars):
@@ -67,7 +67,8 @@ def shows_two_courses(house, rules, liars, value):
         return False
     if not all([_are_nights(house, rules, liars, last + 1, nights) for nights in value]):
         return False
-    return _course(house, rules, 0, value[0])[-1] == _course(house, rules, 1, value[1])[-1]
+    ends = [slates_of_course(house, rules, number, value[number])[-1] for number in (0, 1)]
+    return ends[0] == ends[1]
 
 
 def could_be(house, rules, liars, evening, slates):
@@ -84,6 +85,22 @@ def could_be(house, rules, liars, evening, slates):
         if (group >> place) & 1:
             numbers.append(number)
     return tuple(numbers)
+
+
+def slates_of_course(house, rules, start, nights):
+    """What course returns, for right arguments and for any number of nights."""
+    evenings = [(start,) * len(house)]
+    for night in nights:
+        evenings.append(next_slates(house, rules, evenings[-1], night))
+    return tuple(evenings)
+
+
+def next_slates(house, rules, slates, night):
+    """The slates behind a night and a morning, for right arguments."""
+    struck = list(slates)
+    for slate, sign in night:
+        struck[slate] = sign
+    return _written(house, rules, struck)
 
 
 def _check_liars(house, rules, liars):
@@ -118,16 +135,6 @@ def _all_rows(signs, length):
 def _written(house, rules, slates):
     signs, tables = rules
     return tuple([table[_place(signs, [slates[slate] for slate in row])] for row, table in zip(house, tables)])
-
-
-def _course(house, rules, start, nights):
-    evenings = [(start,) * len(house)]
-    for night in nights:
-        struck = list(evenings[-1])
-        for slate, sign in night:
-            struck[slate] = sign
-        evenings.append(_written(house, rules, struck))
-    return tuple(evenings)
 
 
 def _members(group):

@@ -6,6 +6,7 @@ Nothing here comes from the package: covered slates are frozensets, and all lots
 from functools import lru_cache
 from itertools import combinations, product
 
+
 def lots(many):
     """All lots of a house of so many clerks, ascending."""
     return sorted(lot for size in range(many + 1) for lot in combinations(range(many), size))
@@ -146,3 +147,82 @@ def meeting(house, rules, liars):
         known |= new
         evening += 1
     return None
+
+
+def crew(house, least):
+    """The greatest lot of a crew, by all lots: the one that holds all the others."""
+    found = [set(lot) for lot in lots(len(house)) if all(len(set(house[clerk]) & set(lot)) >= least for clerk in lot)]
+    greatest = max(found, key=len)
+    assert all(lot <= greatest for lot in found)
+    return tuple(sorted(greatest))
+
+
+def change_sight(house, clerk, slate):
+    """The house in which a clerk looks at a slate if not before, and else not any more."""
+    rows = [set(row) for row in house]
+    rows[clerk] ^= {slate}
+    return tuple(tuple(sorted(row)) for row in rows)
+
+
+def best_sight(house):
+    missing = [(clerk, slate) for clerk, row in enumerate(house) for slate in range(len(house)) if slate not in row]
+    numbers = {pair: number_of(change_sight(house, *pair), range(len(house))) for pair in missing}
+    best = [pair for pair in missing if numbers[pair] == max(numbers.values())]
+    return (*min(best), numbers[min(best)]) if missing else None
+
+
+def spare_sights(house):
+    number = number_of(house, range(len(house)))
+    pairs = [(clerk, slate) for clerk, row in enumerate(house) for slate in row if len(row) > 1]
+    return tuple(pair for pair in pairs if number_of(change_sight(house, *pair), range(len(house))) == number)
+
+
+def words(numbers):
+    return " ".join(map(str, numbers))
+
+
+def night_words(pairs):
+    return " ".join(["night", *(f"{slate}={sign}" for slate, sign in pairs)])
+
+
+def tale(house, rules, value):
+    """The lines of two courses, by plain days."""
+    sides = [(0,) * len(house), (1,) * len(house)]
+    text = f"evening 0: {words(sides[0])} | {words(sides[1])}\n"
+    for evening, both in enumerate(zip(*value), 1):
+        sides = [day(house, rules, slates, pairs) for slates, pairs in zip(sides, both)]
+        text += f"{night_words(both[0])} | {night_words(both[1])}\n"
+        text += f"evening {evening}: {words(sides[0])} | {words(sides[1])}\n"
+    return text
+
+
+def first_bad_line(text, allowed, needed):
+    """The line that BadLine tells, None for a good text: allowed are the lines that can stand at each place."""
+    lines = text.split("\n")
+    if lines.pop() != "":
+        return len(lines)
+    for at, line in enumerate(lines):
+        if at >= len(allowed) or line not in allowed[at]:
+            return at
+    return len(lines) if len(lines) < needed else None
+
+
+@lru_cache(maxsize=None)
+def house_lines(many):
+    """The lines that can stand at each place of the text of a house, of so many lines."""
+    some = lots(min(many, 7))[1:]
+    return [{f"clerk {clerk} looks at {words(lot)}" for lot in some} for clerk in range(min(many, 7))]
+
+
+@lru_cache(maxsize=None)
+def rules_lines(house, signs):
+    """Likewise for rules of a house, signs being those that the first line tells."""
+    return [{"signs 2", "signs 3"}] + [
+        {f"clerk {clerk} writes {words(table)}" for table in product(range(signs), repeat=signs ** len(row))}
+        for clerk, row in enumerate(house)]
+
+
+@lru_cache(maxsize=None)
+def nights_lines(many, signs):
+    """Likewise for nights of a house of so many clerks."""
+    return [{night_words(pairs) for pairs in nights(many, signs, many)}] * 200

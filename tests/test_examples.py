@@ -2,13 +2,18 @@
 
 import unittest
 
+from nightslates.benches import Bench
 from nightslates.coins import (bears, best_lots, closed_family, days_borne, days_to, number_of, shows_closed_family,
                                shows_cover_row, slate_number)
-from nightslates.errors import BadHouse, BadLot, BadRules
+from nightslates.crews import beside, best_sight, crew, crew_number, spare_sights, with_sight
+from nightslates.errors import BadCourses, BadHouse, BadLine, BadLot, BadNight, BadRules, TooMany
 from nightslates.houses import after
 from nightslates.rules import could_be, course, days_told, morning, shows_two_courses, tells, two_courses
+from nightslates.tales import tale
+from nightslates.texts import house_text, nights_text, read_house, read_nights, read_rules, rules_text
 
 THREE, ALONE = ((0, 1, 2),) * 3, ((0,), (1,))
+COPY = (2, ((0, 1), (0, 1)))
 MOST = (2, ((0, 0, 0, 1, 0, 1, 1, 1),) * 3)
 
 
@@ -55,3 +60,45 @@ class Examples(unittest.TestCase):
         with self.assertRaises(BadRules) as caught:
             tells(THREE, (2, ((0, 1),) * 3), 1)
         self.assertEqual(vars(caught.exception), {"part": "tables"})
+
+    def test_crews(self):
+        self.assertEqual(
+            [crew(((0, 1), (0, 1), (2,)), 2), crew_number(((0,), (1,))), beside(((0,),), ((0, 1), (0,))),
+             with_sight(((0,), (1,)), 0, 1), best_sight(((0,), (1,))), spare_sights(((0, 1), (1,)))],
+            [(0, 1), 1, ((0,), (1, 2), (1,)), ((0, 1), (1,)), (0, 1, 1), ((0, 0), (0, 1))])
+
+    def test_crews_error(self):
+        with self.assertRaises(TooMany) as caught:
+            beside(((0,),) * 4, ((0,),) * 4)
+        self.assertEqual(vars(caught.exception), {"most": 7})
+
+    def test_benches(self):
+        bench = Bench(ALONE, COPY, 1)
+        self.assertEqual(
+            [bench.day(((0, 0),)), bench.slates, bench.evening, bench.struck, bench.could_be(1), bench.could_be(0)],
+            [None, (0, 1), 1, 1, (0, 1), ()])
+        with self.assertRaises(BadNight) as caught:
+            bench.day(((2, 0),))
+        self.assertEqual(vars(caught.exception), {})
+
+    def test_texts(self):
+        self.assertEqual(
+            [house_text(ALONE), read_house("clerk 0 looks at 0\n"), rules_text(ALONE, COPY),
+             read_rules(ALONE, rules_text(ALONE, COPY)) == COPY, nights_text(ALONE, COPY, (((0, 1),), ())),
+             read_nights(ALONE, COPY, "night 1=0\n")],
+            ["clerk 0 looks at 0\nclerk 1 looks at 1\n", ((0,),),
+             "signs 2\nclerk 0 writes 0 1\nclerk 1 writes 0 1\n", True, "night 0=1\nnight\n", (((1, 0),),)])
+
+    def test_texts_error(self):
+        with self.assertRaises(BadLine) as caught:
+            read_house("clerk 0 looks at 1\n")
+        self.assertEqual(vars(caught.exception), {"line": 0})
+
+    def test_tales(self):
+        self.assertEqual(tale(THREE, MOST, 2, ((((0, 1), (1, 1)),), ((),))),
+                         "evening 0: 0 0 0 | 1 1 1\nnight 0=1 1=1 | night\nevening 1: 1 1 1 | 1 1 1\n")
+
+    def test_tales_error(self):
+        with self.assertRaises(BadCourses) as caught:
+            tale(THREE, MOST, 1, None)
+        self.assertEqual(vars(caught.exception), {})

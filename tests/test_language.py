@@ -7,7 +7,7 @@ from pathlib import Path
 
 PACKAGE = Path(__file__).resolve().parent.parent / "nightslates"
 BUILTINS = set("""len range enumerate zip min max sum abs sorted reversed int str bool list tuple dict set isinstance ord
-    repr any all divmod type ValueError KeyError""".split())
+    repr any all divmod type property ValueError KeyError""".split())
 METHODS = set("""append clear copy count endswith extend find get index insert items join keys pop remove replace reverse
     setdefault split startswith strip update values bit_length""".split())
 LIBRARY = {"heapq": {"heappush", "heappop"}, "math": {"gcd", "comb"}, "itertools": {"combinations", "product"}}
@@ -31,9 +31,11 @@ class Language(unittest.TestCase):
 
     def test_functions(self):
         for name, node in self.nodes():
-            if isinstance(node, (ast.FunctionDef, ast.ClassDef)):
+            if isinstance(node, ast.ClassDef):
                 self.assertEqual(node.decorator_list, [], (name, node.name))
             if isinstance(node, ast.FunctionDef):
+                words = [ast.unparse(decorator) for decorator in node.decorator_list]
+                self.assertIn(words, ([], ["property"]), (name, node.name))
                 self.assertLessEqual(node.end_lineno - node.lineno + 1, 40, (name, node.name))
 
     def test_imports(self):

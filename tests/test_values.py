@@ -4,7 +4,7 @@ import copy
 import unittest
 from itertools import combinations, product
 
-from nightslates import coins, errors, houses, rules
+from nightslates import benches, coins, crews, errors, houses, rules, tales, texts
 
 # Wrong in the place of every argument but the last one of a function that begins with shows.
 STRANGE = (-1, 10 ** 30, "", "0", "(0,)", True, False, None, [], [0], [(0,)], [[0]], [((0,), (0, 1))], {}, {0: 0},
@@ -17,6 +17,7 @@ RULES = ((), (2,), (2, (), ()), [2, ((0, 1), (0, 1, 1, 0))], (True, ((0, 1), (0,
 
 # For each kind of argument: a right value, wrong ones, and the error that these raise.
 HOUSE = ((0,), (0, 1))
+TABLES = (2, ((0, 1), (0, 1, 1, 0)))
 KINDS = {
     "house": (HOUSE, STRANGE + ((), ((0,), (1, 0)), ((0,), ()), HOUSE * 4), errors.BadHouse),
     "lot": ((0,), STRANGE + LOTS, errors.BadLot),
@@ -24,10 +25,38 @@ KINDS = {
     "number": (1, STRANGE + LOTS + ((), 8, "1", (1,), [1]), errors.BadNumber),
     "start": (1, STRANGE + LOTS + ((), 2, "1", (1,), [1]), errors.BadNumber),
     "evening": (200, STRANGE + LOTS + ((), 201, "1", (1,), [1]), errors.BadNumber),
-    "rules": ((2, ((0, 1), (0, 1, 1, 0))), STRANGE + RULES, errors.BadRules),
+    "rules": (TABLES, STRANGE + RULES, errors.BadRules),
     "slates": ((1, 0), STRANGE + ((), (0,), (0, 0, 0), (0, 2), (0, -1), (0, True), (0, None), [0, 1]), errors.BadSlates),
     "nights": ((((0, 1),), ()), STRANGE + (((),) * 201, [()], ([],), (((0, 1), (0, 0)),), (((2, 0),),)), errors.BadNight),
+    "night": (((0, 1),), tuple(value for value in STRANGE if value != ((0, 0),)) + (
+        ((0, 0), (0, 1)), ((1, 0), (0, 0)), ((0, 2),), ((2, 0),), ((0, True),), [(0, 1)], ([0, 1],)), errors.BadNight),
+    "least": (1, STRANGE + LOTS + ((), 0, 8, "1", (1,), [1]), errors.BadNumber),
+    "clerk": (0, STRANGE + LOTS + ((), 2, 7, "1", (1,), [1]), errors.BadNumber),
+    "slate": (1, STRANGE + LOTS + ((), 0, 2, 7, "1", (1,), [1]), errors.BadNumber),
+    "courses": (((((0, 1),),), (((1, 0),),)), STRANGE + RULES + ((), ((), ()), ((((0, 1),),), ((),))),
+                errors.BadCourses),
+    "house text": ("clerk 0 looks at 0\nclerk 1 looks at 0 1\n", STRANGE + RULES + (
+        "\n", "clerk 0 looks at 0", "night\n", ["clerk 0 looks at 0\n"], ("clerk 0 looks at 0\n",)), errors.BadLine),
+    "rules text": ("signs 2\nclerk 0 writes 0 1\nclerk 1 writes 0 1 1 0\n", STRANGE + RULES + (
+        "\n", "signs 2\n", "night\n", ["signs 2\n"], {"signs": 2}), errors.BadLine),
+    "nights text": ("night 0=1\nnight\n", tuple(value for value in STRANGE if value != "") + RULES + (
+        "\n", "night", "night 2=0\n", ["night\n"], ("night\n",)), errors.BadLine),
 }
+
+
+def bench_begun(house, table, start):
+    return benches.Bench(house, table, start).slates
+
+
+def bench_day(night):
+    bench = benches.Bench(HOUSE, TABLES, 1)
+    bench.day(night)
+    return bench.slates
+
+
+def bench_could_be(liars):
+    return benches.Bench(HOUSE, TABLES, 1).could_be(liars)
+
 
 CALLS = (
     (houses.after, ("house", "lot", "lot")),
@@ -46,6 +75,22 @@ CALLS = (
     (rules.days_told, ("house", "rules", "number")),
     (rules.two_courses, ("house", "rules", "number")),
     (rules.could_be, ("house", "rules", "number", "evening", "slates")),
+    (crews.crew, ("house", "least")),
+    (crews.crew_number, ("house",)),
+    (crews.beside, ("house", "house")),
+    (crews.with_sight, ("house", "clerk", "slate")),
+    (crews.best_sight, ("house",)),
+    (crews.spare_sights, ("house",)),
+    (bench_begun, ("house", "rules", "start")),
+    (bench_day, ("night",)),
+    (bench_could_be, ("number",)),
+    (texts.house_text, ("house",)),
+    (texts.rules_text, ("house", "rules")),
+    (texts.nights_text, ("house", "rules", "nights")),
+    (texts.read_house, ("house text",)),
+    (texts.read_rules, ("house", "rules text")),
+    (texts.read_nights, ("house", "rules", "nights text")),
+    (tales.tale, ("house", "rules", "number", "courses")),
 )
 
 SHOWS = (
@@ -105,7 +150,7 @@ class WrongValues(unittest.TestCase):
     def test_all_arguments_wrong(self):
         for function, kinds, rest in many_calls():
             arguments = [None for _ in kinds] + list(rest)
-            self.assertIs(self.raised(function, arguments), errors.BadHouse, function.__name__)
+            self.assertIs(self.raised(function, arguments), KINDS[kinds[0]][2], function.__name__)
 
     def test_shows_any_value(self):
         for function, kinds in SHOWS:
@@ -127,10 +172,11 @@ class WrongValues(unittest.TestCase):
         for function, kinds in SHOWS:
             for value in (deep, (deep, deep), ((deep,), (deep,))):
                 self.assertIs(function(*right(kinds), value), False, function.__name__)
-        for place, kind in enumerate(CALLS[0][1]):
-            arguments = right(CALLS[0][1])
-            arguments[place] = deep
-            self.assertIs(self.raised(houses.after, arguments), KINDS[kind][2])
+        for function, kinds, rest in many_calls():
+            for place, kind in enumerate(kinds):
+                arguments = right(kinds) + list(rest)
+                arguments[place] = deep
+                self.assertIs(self.raised(function, arguments), KINDS[kind][2], (function.__name__, place))
 
     def test_nothing_is_modified(self):
         for function, kinds, rest in many_calls():
@@ -153,7 +199,10 @@ class WrongValues(unittest.TestCase):
         wanted = {"after": tuple, "slate_number": int, "number_of": int, "days_to": int, "cover_row": tuple,
                   "closed_family": type(None), "bears": bool, "lot_bears": bool, "days_borne": int, "best_lots": tuple,
                   "morning": tuple, "course": tuple, "tells": bool, "days_told": int, "two_courses": tuple,
-                  "could_be": tuple}
+                  "could_be": tuple, "crew": tuple, "crew_number": int, "beside": tuple, "with_sight": tuple,
+                  "best_sight": tuple, "spare_sights": tuple, "bench_begun": tuple, "bench_day": tuple,
+                  "bench_could_be": tuple, "house_text": str, "rules_text": str, "nights_text": str,
+                  "read_house": tuple, "read_rules": tuple, "read_nights": tuple, "tale": str}
         for function, kinds in CALLS:
             self.assertIs(type(function(*right(kinds))), wanted[function.__name__], function.__name__)
 
@@ -169,9 +218,12 @@ class WrongHouses(unittest.TestCase):
             (((0,),) * 6 + ((7,),), 6), (((0, 1, 2), (0, 1, 2), (0, 2, 1)), 2), (((3,), (1,), (2,)), 0)]
         for house, clerk in wrong:
             for function, kinds, rest in many_calls():
-                with self.assertRaises(errors.BadHouse, msg=(function.__name__, house)) as caught:
-                    function(house, *right(kinds[1:]), *rest)
-                self.assertEqual(caught.exception.clerk, clerk, house)
+                for place in [place for place, kind in enumerate(kinds) if kind == "house"]:
+                    arguments = right(kinds) + list(rest)
+                    arguments[place] = house
+                    with self.assertRaises(errors.BadHouse, msg=(function.__name__, house)) as caught:
+                        function(*arguments)
+                    self.assertEqual(caught.exception.clerk, clerk, house)
 
     def test_one_and_seven_clerks(self):
         self.assertEqual(houses.after(((0,),), (), (0,)), (0,))
@@ -192,8 +244,8 @@ class WrongRules(unittest.TestCase):
                                 ((0, -1), tables[1]), ((0, "1"), tables[1]), ((0, 1, 0), tables[1]))]
         wrong += [((3, tables), "tables")]
         for value, part in wrong:
-            for function, kinds in CALLS[10:] + SHOWS[2:]:
-                rest = right(kinds[2:]) + [None] * (function is rules.shows_two_courses)
-                with self.assertRaises(errors.BadRules, msg=(function.__name__, value)) as caught:
-                    function(HOUSE, value, *rest)
-                self.assertEqual(caught.exception.part, part, value)
+            for function, kinds, rest in many_calls():
+                if "rules" in kinds:
+                    with self.assertRaises(errors.BadRules, msg=(function.__name__, value)) as caught:
+                        function(HOUSE, value, *right(kinds[2:]), *rest)
+                    self.assertEqual(caught.exception.part, part, value)
