@@ -40,7 +40,7 @@ def read_house(text):
     clerks = lines[:MOST_CLERKS]
     house = []
     for at, line in enumerate(lines):
-        row = _numbers_behind(f"clerk {at} looks at ", line)
+        row = numbers_behind(f"clerk {at} looks at ", line)
         if at >= MOST_CLERKS or row is None or not is_lot(clerks, row):
             raise BadLine(at)
         house.append(row)
@@ -56,7 +56,7 @@ def read_rules(house, text):
     signs = int(lines[0][-1])
     tables = []
     for clerk, line in enumerate(lines[1:]):
-        table = _numbers_behind(f"clerk {clerk} writes ", line)
+        table = numbers_behind(f"clerk {clerk} writes ", line)
         if clerk >= len(house) or not is_row_of_signs(signs, count_rows(signs, len(house[clerk])), table):
             raise BadLine(clerk + 1)
         tables.append(table)
@@ -71,7 +71,7 @@ def read_nights(house, rules, text):
     check_rules(house, rules)
     nights = []
     for at, line in enumerate(_lines(text)):
-        night = _read_night(line)
+        night = read_night(line)
         if at >= MOST_NIGHTS or not is_night(house, rules[0], night):
             raise BadLine(at)
         nights.append(night)
@@ -88,16 +88,7 @@ def night_line(night):
     return " ".join(["night"] + [f"{slate}={sign}" for slate, sign in night])
 
 
-def _lines(text):
-    """The lines of a text, without their ends."""
-    if type(text) is not str:
-        raise BadLine(0)
-    if text != "" and not text.endswith("\n"):
-        raise BadLine(text.count("\n"))
-    return text.split("\n")[:-1]
-
-
-def _numbers_behind(head, line):
+def numbers_behind(head, line):
     """The numbers that stand behind the head of a line, one at least; None for a line that has no such form."""
     if not line.startswith(head):
         return None
@@ -107,12 +98,21 @@ def _numbers_behind(head, line):
     return tuple([int(word) for word in words])
 
 
-def _read_night(line):
+def read_night(line):
     """The pairs of numbers behind the word night; None for a line that has no such form."""
     first, *words = line.split(" ")
     if first != "night" or not all([_is_pair(word) for word in words]):
         return None
     return tuple([(int(word[0]), int(word[2])) for word in words])
+
+
+def _lines(text):
+    """The lines of a text, without their ends."""
+    if type(text) is not str:
+        raise BadLine(0)
+    if text != "" and not text.endswith("\n"):
+        raise BadLine(text.count("\n"))
+    return text.split("\n")[:-1]
 
 
 def _is_pair(word):

@@ -52,6 +52,67 @@ def row_covers(house, row, goal):
     return set(goal) <= covered
 
 
+@lru_cache(maxsize=None)
+def reached(house, coins, lot):
+    """All sets of slates that can come to be covered by lots of any size that is allowed within a lot."""
+    some = [part for part in lots(len(house)) if len(part) <= coins and set(part) <= set(lot)]
+    known, new = {frozenset()}, {frozenset()}
+    while new:
+        new = {step(house, covered, part) for covered in new for part in some} - known
+        known |= new
+    return known
+
+
+def bound_number(house, goal, lot):
+    numbers = [coins for coins in range(8) if any(set(goal) <= covered for covered in reached(house, coins, lot))]
+    return min(numbers, default=None)
+
+
+def guards(house, liars, wipers):
+    many = len(house)
+    found = []
+    for lot in lots(many):
+        others = tuple(slate for slate in range(many) if slate not in lot)
+        if not any(len(covered) == many for covered in reached(house, 2 * liars + wipers, others)):
+            found.append(lot)
+    return tuple(lot for lot in found if len(lot) == min(map(len, found)))
+
+
+def days_by(house, allowance, goal):
+    """Day by day all sets of slates that can be covered, until they come again at the same place of the allowance."""
+    covers, day, known = frozenset({frozenset()}), 0, set()
+    while (covers, day % len(allowance)) not in known:
+        known.add((covers, day % len(allowance)))
+        if any(set(goal) <= covered for covered in covers):
+            return day
+        some = [lot for lot in lots(len(house)) if len(lot) <= allowance[day % len(allowance)]]
+        covers = frozenset(step(house, covered, lot) for covered in covers for lot in some)
+        day += 1
+    return None
+
+
+def least_rest(house, coins):
+    for rest in range(6):
+        if days_by(house, (coins,) + (0,) * rest, range(len(house))) is None:
+            return rest
+    return None
+
+
+def missed_number(house, missed):
+    return min(number_of(house, lot) for lot in lots(len(house)) if len(lot) == len(house) - missed)
+
+
+def most_missed(house, liars, wipers):
+    borne = [missed for missed in range(len(house)) if 2 * liars + wipers < missed_number(house, missed)]
+    return max(borne, default=None)
+
+
+def edge(house):
+    number = number_of(house, range(len(house)))
+    return tuple(max(wipers for wipers in range(8) if 2 * liars + wipers < number)
+                 for liars in range(8) if 2 * liars < number)
+
+
 def is_family(house, coins, goal, family):
     """Whether lots are closed under coins, and do not hold the goal, by the words of point 4."""
     some = [lot for lot in lots(len(house)) if len(lot) <= coins]
@@ -61,28 +122,34 @@ def is_family(house, coins, goal, family):
                                 for lot in family for coin in some)
 
 
-def first_untold(house, liars, wipers, goal, last):
+def first_untold(house, liars, wipers, goal, last, touched=range(7)):
     """The first evening up to the last on which signs on a goal come of both numbers, if clerks write all they see.
 
     To write all that is seen is the best rule, as any other one goes by it. None if there is no such evening.
     """
+    return first_untold_by(house, ((liars, wipers),), goal, last, touched)
+
+
+def first_untold_by(house, enemy, goal, last, touched=range(7)):
+    """The same for an enemy by the day, who touches some slates alone."""
     many = len(house)
     sides = [{(number,) * many} for number in (0, 1)]
     for evening in range(last + 1):
         if {tuple(s[k] for k in goal) for s in sides[0]} & {tuple(s[k] for k in goal) for s in sides[1]}:
             return evening
         if evening < last:
+            liars, wipers = enemy[evening % len(enemy)]
             signs = sorted({sign for side in sides for slates in side for sign in slates}) + [-1]
             seen = {}
-            sides = [{look(house, slates, seen) for slates in night(side, many, liars, wipers, signs)}
+            sides = [{look(house, slates, seen) for slates in night(side, many, liars, wipers, signs, touched)}
                      for side in sides]
     return None
 
 
-def night(side, many, liars, wipers, signs):
+def night(side, many, liars, wipers, signs, touched):
     """All slates behind a night, where -1 is the sign of a wiped slate, which liars may write, too."""
     out = set()
-    for kinds in product(("kept", "struck", "wiped"), repeat=many):
+    for kinds in product(*[("kept", "struck", "wiped") if slate in touched else ("kept",) for slate in range(many)]):
         if kinds.count("struck") <= liars and kinds.count("wiped") <= wipers:
             for slates in side:
                 words = [{"kept": [sign], "struck": signs, "wiped": [-1]}[kind] for kind, sign in zip(kinds, slates)]

@@ -6,9 +6,13 @@ from nightslates.benches import Bench
 from nightslates.coins import (bears, best_lots, closed_family, days_borne, days_to, number_of, shows_closed_family,
                                shows_cover_row, slate_number)
 from nightslates.crews import beside, best_sight, crew, crew_number, spare_sights, with_sight
+from nightslates.desks import Desk
 from nightslates.errors import BadCourses, BadHouse, BadLine, BadLot, BadNight, BadRules, TooMany
 from nightslates.houses import after
+from nightslates.readers import edge, missed_number, most_missed
 from nightslates.rules import could_be, course, days_told, morning, shows_two_courses, tells, two_courses
+from nightslates.schedules import bears_by, days_by, least_rest, shows_row_by
+from nightslates.strikers import bound_bears, bound_number, guards
 from nightslates.tales import tale
 from nightslates.texts import house_text, nights_text, read_house, read_nights, read_rules, rules_text
 
@@ -102,3 +106,31 @@ class Examples(unittest.TestCase):
         with self.assertRaises(BadCourses) as caught:
             tale(THREE, MOST, 1, None)
         self.assertEqual(vars(caught.exception), {})
+
+    def test_strikers(self):
+        self.assertEqual(
+            [bound_number(THREE, (0,), (0, 1)), bound_number(ALONE, (0, 1), (0, 1)),
+             bound_bears(THREE, 7, 7, (0,), (0, 1)), guards(THREE, 2, 0), guards(THREE, 1, 0)],
+            [None, 1, True, ((0,), (1,), (2,)), ((),)])
+
+    def test_schedules(self):
+        self.assertEqual(
+            [days_by(ALONE, (0, 1), (0, 1)), days_by(THREE, (2, 1), (0,)),
+             shows_row_by(ALONE, (0, 1), (0, 1), ((), (0,), (), (1,))), bears_by(THREE, ((1, 0), (1, 1))),
+             least_rest(ALONE, 1), least_rest(THREE, 2)],
+            [4, None, True, False, None, 0])
+
+    def test_readers(self):
+        self.assertEqual(
+            [missed_number(THREE, 2), most_missed(THREE, 1, 0), most_missed(THREE, 1, 1), edge(THREE)],
+            [3, 2, None, (2, 0)])
+
+    def test_desks(self):
+        desk = Desk(ALONE, COPY, 1)
+        self.assertEqual(
+            [desk.do("night 0=0"), desk.do("slates"), desk.do("evening"), desk.do("most"), desk.do("could 1"),
+             desk.do("could 0")],
+            ["done", "0 1", "1", "1", "0 1", ""])
+        with self.assertRaises(BadLine) as caught:
+            desk.do("night 2=0")
+        self.assertEqual(vars(caught.exception), {"line": 0})

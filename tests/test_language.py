@@ -46,13 +46,41 @@ class Language(unittest.TestCase):
                 self.assertTrue(node.module.startswith("nightslates.") or words <= LIBRARY.get(node.module, set()), name)
 
     def test_words(self):
+        methods = METHODS | {method.name for _, node in self.nodes() if isinstance(node, ast.ClassDef)
+                             for method in node.body if isinstance(method, ast.FunctionDef)}
         for name, node in self.nodes():
             if isinstance(node, ast.Name) and hasattr(builtins, node.id):
                 self.assertIn(node.id, BUILTINS, (name, node.lineno))
             if isinstance(node, ast.Call) and isinstance(node.func, ast.Attribute):
-                self.assertIn(node.func.attr, METHODS | {"__init__"}, (name, node.lineno))
+                self.assertIn(node.func.attr, methods, (name, node.lineno))
 
     def test_no_floats(self):
         for name, node in self.nodes():
             self.assertFalse(isinstance(node, ast.Constant) and isinstance(node.value, (float, complex)), name)
             self.assertNotIsInstance(node, (ast.Div, ast.Global, ast.AsyncFunctionDef, ast.Await), name)
+
+    def test_names(self):
+        """No parameter and no variable has the name of a class or an import of its file, or of a builtin."""
+        for name, text in self.files():
+            tree = ast.parse(text)
+            taken = {alias.name for node in ast.walk(tree) if isinstance(node, ast.ImportFrom) for alias in node.names}
+            taken |= {node.name for node in ast.walk(tree) if isinstance(node, ast.ClassDef)} | set(dir(builtins))
+            for node in ast.walk(tree):
+                words = []
+                if isinstance(node, ast.arg):
+                    words = [node.arg]
+                if isinstance(node, ast.Name) and isinstance(node.ctx, ast.Store):
+                    words = [node.id]
+                self.assertFalse(set(words) & taken, (name, words))
+
+    def test_no_two_files_import_from_each_other(self):
+        imports = {}
+        for name, node in self.nodes():
+            modules = imports.setdefault("nightslates." + name[:-3], set())
+            if isinstance(node, ast.ImportFrom):
+                modules.add(node.module)
+        while imports:
+            ends = [module for module, others in imports.items() if not others & set(imports)]
+            self.assertTrue(ends, imports)
+            for module in ends:
+                del imports[module]

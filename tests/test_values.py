@@ -4,7 +4,8 @@ import copy
 import unittest
 from itertools import combinations, product
 
-from nightslates import benches, coins, crews, errors, houses, rules, tales, texts
+from nightslates import (benches, coins, crews, desks, errors, houses, readers, rules, schedules, strikers, tales,
+                         texts)
 
 # Wrong in the place of every argument but the last one of a function that begins with shows.
 STRANGE = (-1, 10 ** 30, "", "0", "(0,)", True, False, None, [], [0], [(0,)], [[0]], [((0,), (0, 1))], {}, {0: 0},
@@ -35,6 +36,14 @@ KINDS = {
     "slate": (1, STRANGE + LOTS + ((), 0, 2, 7, "1", (1,), [1]), errors.BadNumber),
     "courses": (((((0, 1),),), (((1, 0),),)), STRANGE + RULES + ((), ((), ()), ((((0, 1),),), ((),))),
                 errors.BadCourses),
+    "missed": (1, STRANGE + LOTS + ((), 2, 7, "1", (1,), [1]), errors.BadNumber),
+    "allowance": ((1, 0), STRANGE + ((), (1,) * 7, (8,), (1, 8), (1, -1), (0, True), (False, 1), (1, None),
+                                     ("0", 1), ((1, 0),), [1], [1, 0], 0, 1, 7, "1", (1, ()), (0, 99)), errors.BadNumber),
+    "enemy": (((1, 0), (0, 1)), tuple(value for value in STRANGE if value != ((0, 0),)) + (
+        (), (1, 0), ((1, 0),) * 7, ((1,),), ((1, 0, 0),), ((8, 0),), ((0, 8),), ((0, -1),), ((True, 0),), ((0, False),),
+        [(1, 0)], ([1, 0],), ((1, 0), ()), 1, "10"), errors.BadNumber),
+    "line": ("night 0=1", STRANGE + RULES + ("night ", "night 2=0", "night 0=1\n", "could 10", ["night"], ("slates",)),
+             errors.BadLine),
     "house text": ("clerk 0 looks at 0\nclerk 1 looks at 0 1\n", STRANGE + RULES + (
         "\n", "clerk 0 looks at 0", "night\n", ["clerk 0 looks at 0\n"], ("clerk 0 looks at 0\n",)), errors.BadLine),
     "rules text": ("signs 2\nclerk 0 writes 0 1\nclerk 1 writes 0 1 1 0\n", STRANGE + RULES + (
@@ -56,6 +65,14 @@ def bench_day(night):
 
 def bench_could_be(liars):
     return benches.Bench(HOUSE, TABLES, 1).could_be(liars)
+
+
+def desk_begun(house, table, start):
+    return desks.Desk(house, table, start).do("slates")
+
+
+def desk_do(line):
+    return desks.Desk(HOUSE, TABLES, 1).do(line)
 
 
 CALLS = (
@@ -91,12 +108,25 @@ CALLS = (
     (texts.read_rules, ("house", "rules text")),
     (texts.read_nights, ("house", "rules", "nights text")),
     (tales.tale, ("house", "rules", "number", "courses")),
+    (strikers.bound_number, ("house", "goal", "lot")),
+    (strikers.bound_bears, ("house", "number", "number", "goal", "lot")),
+    (strikers.guards, ("house", "number", "number")),
+    (schedules.days_by, ("house", "allowance", "goal")),
+    (schedules.row_by, ("house", "allowance", "goal")),
+    (schedules.bears_by, ("house", "enemy")),
+    (schedules.least_rest, ("house", "number")),
+    (readers.missed_number, ("house", "missed")),
+    (readers.most_missed, ("house", "number", "number")),
+    (readers.edge, ("house",)),
+    (desk_begun, ("house", "rules", "start")),
+    (desk_do, ("line",)),
 )
 
 SHOWS = (
     (coins.shows_cover_row, ("house", "number", "goal")),
     (coins.shows_closed_family, ("house", "number", "goal")),
     (rules.shows_two_courses, ("house", "rules", "number")),
+    (schedules.shows_row_by, ("house", "allowance", "goal")),
 )
 
 ALL_KINDS = STRANGE + LOTS + RULES + tuple(right for right, _, _ in KINDS.values()) + (
@@ -162,8 +192,9 @@ class WrongValues(unittest.TestCase):
         for value in ALL_KINDS:
             answers = [coins.shows_cover_row(HOUSE, 0, (0,), value),
                        coins.shows_closed_family(HOUSE, 2, (0,), value),
-                       rules.shows_two_courses(HOUSE, (2, ((0, 1), (0, 0, 1, 1))), 0, value)]
-            self.assertEqual(answers, [value is None] * 3, value)
+                       rules.shows_two_courses(HOUSE, (2, ((0, 1), (0, 0, 1, 1))), 0, value),
+                       schedules.shows_row_by(HOUSE, (0, 0), (0,), value)]
+            self.assertEqual(answers, [value is None] * 4, value)
 
     def test_deep_values(self):
         deep = ()
@@ -202,7 +233,10 @@ class WrongValues(unittest.TestCase):
                   "could_be": tuple, "crew": tuple, "crew_number": int, "beside": tuple, "with_sight": tuple,
                   "best_sight": tuple, "spare_sights": tuple, "bench_begun": tuple, "bench_day": tuple,
                   "bench_could_be": tuple, "house_text": str, "rules_text": str, "nights_text": str,
-                  "read_house": tuple, "read_rules": tuple, "read_nights": tuple, "tale": str}
+                  "read_house": tuple, "read_rules": tuple, "read_nights": tuple, "tale": str,
+                  "bound_number": type(None), "bound_bears": bool, "guards": tuple, "days_by": int, "row_by": tuple,
+                  "bears_by": bool, "least_rest": type(None), "missed_number": int, "most_missed": type(None),
+                  "edge": tuple, "desk_begun": str, "desk_do": str}
         for function, kinds in CALLS:
             self.assertIs(type(function(*right(kinds))), wanted[function.__name__], function.__name__)
 
